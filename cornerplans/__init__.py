@@ -1,0 +1,1 @@
+# Every name of the package stands in one of its modules; this file defines nothing.
