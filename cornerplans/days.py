@@ -52,7 +52,7 @@ class Box:
         if not isinstance(other, Box):
             return NotImplemented
         work = other._work if self._work is None else self._work
-        days = _common_days(self._days, other._days)
+        days = common_days(self._days, other._days)
         if other._work not in (None, work) or days is None:
             return None
         return Box(work, days)
@@ -67,9 +67,40 @@ class Box:
         return self & other == self
 
 
-def _common_days(one, other):
+def common_days(one, other):
     """The stretch of the days of both, None if they have none in common."""
     firsts = [first for first, _ in (one, other) if first is not None]
     lasts = [last for _, last in (one, other) if last is not None]
     both = (max(firsts, default=None), min(lasts, default=None))
     return both if is_stretch(both) else None
+
+
+def stretches_at(turns):
+    """The stretches that begin on the days of turns, and one ahead of them; together they have all days."""
+    days = sorted(set(turns))
+    return list(zip([None, *days], [day - 1 for day in days] + [None]))
+
+
+def turns_of(stretches):
+    """The days on which one of some stretches begins, or has just ended."""
+    firsts = [first for first, _ in stretches if first is not None]
+    return firsts + [last + 1 for _, last in stretches if last is not None]
+
+
+def day_in(stretch):
+    """Some day of a stretch."""
+    first, last = stretch
+    if first is not None:
+        return first
+    return 0 if last is None else last
+
+
+def put_together(pairs):
+    """Pairs of neighbouring stretches and what is so on them, neighbours with the same made one."""
+    rows = []
+    for (first, last), worth in pairs:
+        if rows and rows[-1][1] == worth:
+            rows[-1] = ((rows[-1][0][0], last), worth)
+        else:
+            rows.append(((first, last), worth))
+    return rows

@@ -56,3 +56,13 @@ def is_lot(thing, many):
     if not isinstance(thing, tuple):
         return False
     return all([is_index(at, many) for at in thing]) and is_ascending(thing)
+
+
+def first_key(first):
+    """What first days are sorted by: None, no beginning, stands ahead of all numbers."""
+    return (0, 0) if first is None else (1, first)
+
+
+def end_key(end):
+    """What last moments and days are sorted by: None, no end, stands behind all numbers."""
+    return (1, 0) if end is None else (0, end)

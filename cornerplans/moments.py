@@ -1,7 +1,7 @@
 """Plans and limits: which things come, and at which moments."""
 
 from cornerplans.errors import BadLimit, BadNumber, BadPlan, BadPlans, BadThing
-from cornerplans.forms import has_names, is_list, is_name, is_number
+from cornerplans.forms import end_key, has_names, is_list, is_name, is_number
 
 
 def is_plan(thing):
@@ -51,13 +51,36 @@ def is_limit(thing):
     return has_names(thing) and all([end is None or is_number(end) for _, end in thing])
 
 
+def is_limit_of(thing, things):
+    """Whether any value is a limit that has none but these things."""
+    return is_limit(thing) and all([name in things for name, _ in thing])
+
+
 def is_within(one, other):
     """Whether each thing of one limit stands in the other one, no earlier there."""
     if not is_limit(one) or not is_limit(other):
         raise BadLimit("this is no limit")
+    return fits(one, other)
+
+
+def fits(one, other):
+    """Whether one limit is within another one, both being known as limits."""
     ends = dict(other)
-    return all([name in ends and _is_room(end, ends[name]) for name, end in one])
+    return all([name in ends and last_end(end, ends[name]) == ends[name] for name, end in one])
 
 
-def _is_room(end, last):
-    return last is None or (end is not None and end <= last)
+def first_end(one, other):
+    """The sooner one of two last moments, None being no end."""
+    if one is None or other is None:
+        return other if one is None else one
+    return min(one, other)
+
+
+def last_end(one, other):
+    """The later one of two last moments, None being no end."""
+    return None if one is None or other is None else max(one, other)
+
+
+def limit_key(limit):
+    """What limits are sorted by: None, no end, stands behind all numbers."""
+    return [(name, end_key(end)) for name, end in limit]

@@ -2,7 +2,7 @@
 
 from cornerplans.errors import BadBook, BadPlan, BadPlans, BadRule, NoPlans, OtherThings
 from cornerplans.forms import are_things, is_list
-from cornerplans.moments import is_plan_of, joined, later
+from cornerplans.moments import is_plan_of, joined, last_end, later
 from cornerplans.rules import Book, is_rule_of, last_of
 
 
@@ -18,7 +18,7 @@ class Plans:
             if not is_plan_of(plan, things):
                 raise BadPlans(at)
         self._things = tuple(sorted(things))
-        self._makers = tuple(_makers_of(made))
+        self._makers = tuple(makers_of(made))
 
     @property
     def things(self):
@@ -37,7 +37,7 @@ class Plans:
         return iter(self._makers)
 
     def __contains__(self, plan):
-        return is_plan_of(plan, self._things) and _greatest(self._makers, plan) == plan
+        return is_plan_of(plan, self._things) and greatest(self._makers, plan) == plan
 
     def __eq__(self, other):
         return isinstance(other, Plans) and self._things == other._things and self._makers == other._makers
@@ -67,7 +67,7 @@ def below(plans, plan):
         raise NoPlans("these are no plans")
     if not is_plan_of(plan, plans.things):
         raise BadPlan("this is no plan of the things of the plans")
-    return _greatest(plans.makers, plan)
+    return greatest(plans.makers, plan)
 
 
 def keeping(plans, rule):
@@ -76,15 +76,20 @@ def keeping(plans, rule):
         raise NoPlans("these are no plans")
     if not is_rule_of(rule, plans.things):
         raise BadRule("this is no rule of the things of the plans")
+    return Plans(plans.things, makers_keeping(plans.makers, rule))
+
+
+def makers_keeping(makers, rule):
+    """Plans that make those of the plans made of makers that keep a rule, too."""
     left, right = rule
     kept, broken = [], []
-    for maker in plans.makers:
+    for maker in makers:
         least, last = last_of(left, maker), last_of(right, maker)
         if least is None or (last is not None and last >= least):
             kept.append((maker, last))
         else:
             broken.append((maker, least))
-    return Plans(plans.things, [maker for maker, _ in kept] + _edges(kept, broken))
+    return [maker for maker, _ in kept] + _edges(kept, broken)
 
 
 def _edges(kept, broken):
@@ -98,23 +103,24 @@ def _edges(kept, broken):
     ]
 
 
-def _makers_of(made):
+def makers_of(made):
     """The plans, ended at 0, none made by the others, that make what these plans make; ascending."""
     ended = sorted(set([_ended(plan) for plan in made if plan != ()]))
-    return [plan for plan in ended if _greatest([other for other in ended if other != plan], plan) != plan]
+    return [plan for plan in ended if greatest([other for other in ended if other != plan], plan) != plan]
 
 
 def _ended(plan):
     return later(plan, -max([moment for _, moment in plan]))
 
 
-def _greatest(makers, plan):
-    """The greatest plan made of makers within a plan: each put off as far as there is room, and joined."""
-    ends = dict(plan)
+def greatest(makers, limit):
+    """The limit of the plans made of makers within a limit: each put off as far as there is room, and joined."""
+    ends = dict(limit)
     lasts = {}
     for maker in makers:
         if all([name in ends for name, _ in maker]):
-            room = min([ends[name] - moment for name, moment in maker])
+            rooms = [ends[name] - moment for name, moment in maker if ends[name] is not None]
             for name, moment in maker:
-                lasts[name] = max(moment + room, lasts.get(name, moment + room))
+                last = moment + min(rooms) if rooms else None
+                lasts[name] = last_end(last, lasts.get(name, last))
     return tuple(sorted(lasts.items()))

@@ -1,11 +1,14 @@
 """What the tests share: any values, grids of plans, plain looks at rules, and checks of errors."""
 
+import inspect
 import itertools
 import random
 import unittest
 
 from cornerplans.days import Box
 from cornerplans.errors import BadPlan, BadPlans
+from cornerplans.late import Forecast
+from cornerplans.offers import Offer
 from cornerplans.plans import Plans
 from cornerplans.prices import Prices, Row
 from cornerplans.rules import Book
@@ -30,9 +33,22 @@ def objects():
         Row(Box("a"), 3),
         Prices([Row(Box(), 1)]),
         Words(["newest"]),
+        Offer(["a", "b"], {"a": [((None, None), 1)], "b": [((None, 0), None), ((1, None), 2)]}),
+        Forecast([Offer(["a"], {"a": [((None, None), 1)]})]),
         BadPlan("a message"),
         BadPlans(3),
     ]
+
+
+def others_than(kind, error):
+    """Any values that are not of this kind, each with the error that is due."""
+    return [(value, error) for value in any_values() + [(), []] if not isinstance(value, kind)]
+
+
+def no_numbers(error):
+    """Any values that are no numbers, each with the error that is due."""
+    values = any_values() + [(), []]
+    return [(value, error) for value in values if isinstance(value, bool) or not isinstance(value, int)]
 
 
 def deep_values():
@@ -112,6 +128,65 @@ def some_books(seed, many, things, waits, most=12):
     return books
 
 
+def some_fare(chance, turns, prices, most=4):
+    """A fare by chance that turns on some of these days."""
+    days = sorted(chance.sample(list(turns), chance.randint(0, min(most - 1, len(turns)))))
+    fare = []
+    for first, last in zip([None, *days], [day - 1 for day in days] + [None]):
+        price = chance.choice(prices)
+        if fare and fare[-1][1] == price:
+            first = fare.pop()[0][0]
+        fare.append(((first, last), price))
+    return fare
+
+
+def some_offer(chance, things, turns, prices=(None, 0, 1, 2, 3), outs=(None, None, 0, 1, 2), most=4):
+    """An offer by chance."""
+    fares = {name: some_fare(chance, turns, prices, most) for name in things}
+    return Offer(list(things), fares, {name: chance.choice(outs) for name in things})
+
+
+def some_made(chance, things, moments, most):
+    """The plans that are made of a few plans by chance."""
+    return Plans(list(things), [some_side(chance, things, moments, 1) for _ in range(chance.randint(0, most))])
+
+
+def is_inside(day, stretch):
+    """A plain look: whether a day is in a stretch."""
+    first, last = stretch
+    return (first is None or first <= day) and (last is None or day <= last)
+
+
+def worth_on(fare, day):
+    """A plain look: the price on a day."""
+    (price,) = [price for stretch, price in fare if is_inside(day, stretch)]
+    return price
+
+
+def worth_of(offer, plan):
+    """A plain look: the price of a plan."""
+    moments, fares, outs = dict(plan), offer.fares, offer.outs
+    parts = [worth_on(fares[name], moments[name]) if name in moments else outs[name] for name in offer.things]
+    return None if None in parts else sum(parts)
+
+
+def is_room(one, other):
+    """A plain look: whether a limit is within another one, None being no end."""
+    ends = dict(other)
+    return all(name in ends and (ends[name] is None or (end is not None and end <= ends[name])) for name, end in one)
+
+
+def priced_plans(plans, offer, window):
+    """All made plans with moments of a window that have a price, with it."""
+    rows = [(plan, worth_of(offer, plan)) for plan in grid(plans.things, window)]
+    return [(plan, price) for plan, price in rows if price is not None and is_made(plan, plans.makers)]
+
+
+def least_of(prices):
+    """The least of some numbers, None if there are none."""
+    return min(prices, default=None)
+
+
 def strictly(value):
     """A text by which values are told apart, also True and 1, and lists and tuples."""
     return repr(value)
@@ -135,6 +210,18 @@ class Case(unittest.TestCase):
         for name in due:
             self.assertIs(type(told[name]), type(due[name]))
             self.assertEqual(told[name], due[name])
+
+    def judged(self, call, good, bad):
+        """Wrong arguments are refused, by position and by name, the first one of several being told: for each
+        parameter bad has pairs of a value and its error."""
+        names = list(inspect.signature(call).parameters)
+        call(*good)
+        for at, rows in enumerate(bad):
+            behind = [pairs[0][0] if pairs else kept for pairs, kept in zip(bad[at + 1:], good[at + 1:])]
+            for value, error in rows:
+                self.fails(error, call, *good[:at], value, *good[at + 1:])
+                self.fails(error, call, *good[:at], value, *behind)
+                self.fails(error, call, **dict(zip(names, [*good[:at], value, *good[at + 1:]])))
 
     def unequal_to_others(self, thing):
         """The object is equal to no value of another kind."""

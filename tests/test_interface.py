@@ -7,8 +7,11 @@ import pathlib
 import unittest
 
 FOLDER = pathlib.Path(__file__).resolve().parent.parent / "cornerplans"
-# The modules in the order of the document; forms is the one that is no part of the interface.
-ORDER = ["forms", "errors", "moments", "rules", "plans", "strict", "days", "prices", "words"]
+# The modules in the order of the document; forms, covers, regions and joint are no part of the interface.
+ORDER = [
+    "forms", "errors", "moments", "rules", "plans", "strict", "days", "prices", "words", "asking", "fares", "offers",
+    "cells", "covers", "corners", "lasts", "regions", "likeness", "joint", "late",
+]
 FUNCTIONS = {
     "moments": [
         "is_plan(thing)", "moment_of(plan, name)", "later(plan, number)", "joined(plans)", "is_limit(thing)",
@@ -19,6 +22,41 @@ FUNCTIONS = {
     "strict": ["strictest(plans)", "bar(plans, plan)"],
     "days": ["is_stretch(thing)", "in_stretch(day, stretch)"],
     "words": ["alike_words(one, other)", "all_words()"],
+    "asking": [
+        "rows_at(prices, work, day)", "left_at(words, prices, work, day)", "told(words, prices, work, day)",
+        "steps(words, prices, work)", "tell_alike(words, one, other)", "parting_day(words, one, other)",
+        "dead_rows(words, prices)", "never_left(prices)",
+    ],
+    "fares": [
+        "is_fare(thing)", "price_on(fare, day)", "shifted(fare, number)", "ahead(fare)", "added(one, other)",
+        "least_fare(words, prices, work)", "greatest_fare(words, prices, work)", "rows_for(fare)", "fewest_rows(fare)",
+    ],
+    "offers": ["price_of(offer, plan)", "offer_of(words, prices, things, outs=None)"],
+    "cells": [
+        "latest(plans, limit)", "cells(offer)", "cell_price(offer, cell)", "ends(offer, cell)",
+        "latest_in(plans, offer, cell)", "cell_bar(plans, offer, cell)",
+    ],
+    "corners": [
+        "corners(plans, offer)", "price_above(plans, offer, floors)", "cheapest(plans, offer, floors)",
+        "limit_for(plans, offer, price, floors)", "is_paper(plans, offer, floors, thing)",
+        "paper(plans, offer, floors)", "fewest_rules(plans, offer, floors)", "lower_set(plans, offer, number)",
+        "blockers(plans, offer, number)",
+    ],
+    "lasts": [
+        "price_within(plans, offer, floors, limit)", "staircase(plans, offer, floors)",
+        "within_price(plans, offer, floors, number)",
+    ],
+    "likeness": [
+        "plans_alike(one, other)", "parting_offer(one, other)", "is_parting_offer(one, other, thing)",
+        "price_ahead(offer, plan)", "offers_alike(one, other)", "parting_plan(one, other)",
+    ],
+    "late": [
+        "parted(forecast, one, other)", "is_strategy(plans, forecast, thing)", "foot_of(plans, forecast, strategy)",
+        "prices_of(plans, forecast, strategy)", "late_corners(plans, forecast)",
+        "strategy_for(plans, forecast, prices, floors)", "guaranteed(plans, forecast, floors)",
+        "weighed(plans, forecast, floors, weights)", "regret(plans, forecast, floors)",
+        "worth_of_news(plans, forecast, news, floors)",
+    ],
 }
 CLASSES = {
     "rules": {
@@ -45,6 +83,10 @@ CLASSES = {
         ],
     },
     "words": {"Words(words=())": ["__eq__(other)"]},
+    "offers": {
+        "Offer(things, fares, outs=None)": ["with_fare(name, fare)", "with_out(name, out)", "__eq__(other)"],
+    },
+    "late": {"Forecast(offers, news=())": ["__eq__(other)"]},
 }
 PROPERTIES = {
     ("rules", "Book"): ["things", "rules"],
@@ -53,6 +95,8 @@ PROPERTIES = {
     ("prices", "Row"): ["box", "price", "rank"],
     ("prices", "Prices"): ["rows"],
     ("words", "Words"): ["words", "live"],
+    ("offers", "Offer"): ["things", "fares", "outs"],
+    ("late", "Forecast"): ["offers", "news"],
 }
 
 
@@ -65,6 +109,12 @@ def defined(module):
     """The names that a file defines by def or class."""
     tree = ast.parse((FOLDER / f"{module}.py").read_text())
     return [part.name for part in tree.body if isinstance(part, (ast.FunctionDef, ast.ClassDef))]
+
+
+def bound(module):
+    """The names that a file defines, also those of plain values at its top."""
+    tree = ast.parse((FOLDER / f"{module}.py").read_text())
+    return defined(module) + [part.targets[0].id for part in tree.body if isinstance(part, ast.Assign)]
 
 
 class Interface(unittest.TestCase):
@@ -107,7 +157,7 @@ class Interface(unittest.TestCase):
                 if isinstance(part, ast.ImportFrom) and part.module.startswith("cornerplans"):
                     self.assertIn(part.module.removeprefix("cornerplans."), ORDER[:at])
                     for each in part.names:
-                        self.assertIn(each.name, defined(part.module.removeprefix("cornerplans.")))
+                        self.assertIn(each.name, bound(part.module.removeprefix("cornerplans.")))
 
 
 if __name__ == "__main__":

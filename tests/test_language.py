@@ -106,7 +106,8 @@ class Names(unittest.TestCase):
                 self.assertNotEqual(word, "_", place)
 
     def test_builtins(self):
-        names = set(vars(builtins))
+        # Where an example was run ahead of this test, its last answer is kept there as _.
+        names = set(vars(builtins)) - {"_"}
         for node, place in nodes(ast.Name):
             if node.id in names:
                 self.assertIn(node.id, BUILTINS, place)
