@@ -68,6 +68,12 @@ class Forecasts(Case):
             with self.assertRaises(AttributeError):
                 setattr(FORECAST, name, ())
 
+    def test_lots_without_numbers(self):
+        # Nothing says that a lot has a number; no offer is told apart by such a one.
+        forecast = Forecast(OFFERS, [(6, [(), (0, 1)]), (7, [(), (0,), (1,)])])
+        self.same(parted(forecast, 0, 1), 7)
+        self.same(forecast.news, ((6, ((), (0, 1))), (7, ((), (0,), (1,)))))
+
     def test_wrong_offers(self):
         other = Offer(["b"], {"b": EVER})
         for value in any_values() + [
@@ -318,6 +324,24 @@ class LateCorners(Case):
             (FAR, [((1, 9), (("a", 4),)), ((9, 1), (("a", None),))]),
         ]:
             self.same(late_corners(ONE, Forecast(offers, [(day, [(0,), (1,)])])), pairs)
+
+    def test_one_moment_for_three_offers(self):
+        # b comes five days behind a. What is known too late for a comes too late for b, too, though it is known by then
+        # on which days b can be done.
+        plans, must = Plans(["a", "b"], [(("a", 0), ("b", 5))]), {"a": None, "b": None}
+        soon = Offer(["a", "b"], {"a": EVER, "b": [((None, 3), None), ((4, 5), 1), ((6, None), None)]}, must)
+        late = Offer(["a", "b"], {"a": EVER, "b": [((None, 5), None), ((6, 7), 2), ((8, None), None)]}, must)
+        for at in range(3):
+            offers = [soon] * 3
+            offers[at] = late
+            both = tuple(number for number in range(3) if number != at)
+            prices = tuple(7 if number == at else 6 for number in range(3))
+            pairs = [(prices, (("a", 0), ("b", 5)))]
+            for day, answer in [(3, []), (1, []), (0, pairs), (-FAR, pairs)]:
+                for lots in ([(0,), (1,), (2,)], sorted([both, (at,)])):
+                    self.same(late_corners(plans, Forecast(offers, [(day, lots)])), answer)
+            rough = sorted([(both[0],), tuple(sorted([both[1], at]))])
+            self.same(late_corners(plans, Forecast(offers, [(-FAR, rough)])), [])
 
     def test_one_offer_alone_and_equal_ones(self):
         chance = random.Random(1)
