@@ -21,7 +21,7 @@ def left_at(words, prices, work, day):
     """The indexes of the rows that apply and are left in the end."""
     check_words(words)
     lot = rows_at(prices, work, day)
-    return _left(words.words, _orders(words.words, prices.rows), lot)
+    return _left(words.words, _orders(words.words, prices.rows, lot), lot)
 
 
 def told(words, prices, work, day):
@@ -34,7 +34,7 @@ def steps(words, prices, work):
     """The longest stretches of days on which one thing is told, with what is told."""
     check_words(words)
     check_asked(prices, work)
-    return put_together([(days, _told_by(prices.rows, lot)) for days, lot in left_by_days(words, prices, work)])
+    return put_together(told_by_days(words, prices, work))
 
 
 def tell_alike(words, one, other):
@@ -50,7 +50,7 @@ def parting_day(words, one, other):
     if not isinstance(other, Prices):
         raise BadPrices("other")
     rows = one.rows + other.rows
-    for work in _works_of(rows):
+    for work in works_of(rows):
         for days in _stretches_of(rows):
             day = day_in(days)
             if told(words, one, work, day) != told(words, other, work, day):
@@ -70,11 +70,11 @@ def never_left(prices):
     check_prices(prices)
     rows = prices.rows
     days = [day_in(stretch) for stretch in _stretches_of(rows)]
-    lots = sorted(set([_applying(rows, work, day) for work in _works_of(rows) for day in days]))
+    lots = sorted(set([_applying(rows, work, day) for work in works_of(rows) for day in days]))
     found = {}
     for words in all_words():
         if any([word in LAST_WORDS for word in words.words]):
-            orders = _orders(words.words, rows)
+            orders = _orders(words.words, rows, list(range(len(rows))))
             for lot in lots:
                 for at in _left(words.words, orders, lot):
                     found[at] = True
@@ -103,11 +103,22 @@ def check_asked(prices, work):
 def left_by_days(words, prices, work):
     """Stretches that together have all days, with the indexes of the rows that are left on each of their days."""
     rows = prices.rows
-    orders = _orders(words.words, rows)
+    orders = _orders(words.words, rows, list(range(len(rows))))
     return [
         (days, _left(words.words, orders, _applying(rows, work, day_in(days))))
         for days in _stretches_of(rows)
     ]
+
+
+def told_by_days(words, prices, work):
+    """Stretches that together have all days, with what is told on each of their days."""
+    return [(days, _told_by(prices.rows, lot)) for days, lot in left_by_days(words, prices, work)]
+
+
+def works_of(rows):
+    """The works that rows name, and one that none of them names, which stands for all others."""
+    named = sorted(set([row.box.work for row in rows if row.box.work is not None]))
+    return named + [letter for letter in LETTERS if letter not in named][:1]
 
 
 def _applying(rows, work, day):
@@ -119,12 +130,6 @@ def _stretches_of(rows):
     return stretches_at(turns_of([row.box.days for row in rows]))
 
 
-def _works_of(rows):
-    """The works that rows name, and one that none of them names, which stands for all others."""
-    named = sorted(set([row.box.work for row in rows if row.box.work is not None]))
-    return named + [letter for letter in LETTERS if letter not in named][:1]
-
-
 def _left(words, orders, lot):
     left = lot
     for word in words:
@@ -132,14 +137,14 @@ def _left(words, orders, lot):
     return left
 
 
-def _orders(words, rows):
-    """The triples of a word and the indexes of two rows the first of which it puts ahead of the second one."""
+def _orders(words, rows, lot):
+    """The triples of a word and two indexes of a lot of rows the first of which it puts ahead of the second one."""
     return {
         (word, one, other): True
         for word in words
-        for one in range(len(rows))
-        for other in range(len(rows))
-        if _is_ahead(word, rows, one, other)
+        for one in lot
+        for other in lot
+        if one != other and _is_ahead(word, rows, one, other)
     }
 
 

@@ -21,7 +21,7 @@ def latest(plans, limit):
 
 def cells(offer):
     """All cells of an offer, ascending."""
-    _check_offer_alone(offer)
+    check_offer_alone(offer)
     return sorted([cell for _, cell in _priced(offer)], key=_cell_key)
 
 
@@ -60,6 +60,12 @@ def check_offer(plans, offer):
     if not isinstance(plans, Plans):
         raise NoPlans("these are no plans")
     if not isinstance(offer, Offer) or offer.things != plans.things:
+        raise BadOffer(None)
+
+
+def check_offer_alone(offer):
+    """BadOffer(None) for what is no Offer."""
+    if not isinstance(offer, Offer):
         raise BadOffer(None)
 
 
@@ -168,13 +174,8 @@ def _cell_key(cell):
     return [(name, first_key(first), end_key(last)) for name, (first, last) in cell]
 
 
-def _check_offer_alone(offer):
-    if not isinstance(offer, Offer):
-        raise BadOffer(None)
-
-
 def _check_cell(offer, cell):
-    _check_offer_alone(offer)
+    check_offer_alone(offer)
     if not has_names(cell) or not all([is_stretch(days) for _, days in cell]):
         raise BadCell("this is no cell")
     fares, outs, chosen = offer.fares, offer.outs, dict(cell)

@@ -75,6 +75,14 @@ def common_days(one, other):
     return both if is_stretch(both) else None
 
 
+def cut_out(stretch, other):
+    """The stretches of the days of a stretch that are not in another one, which is a part of it."""
+    (first, last), (begin, end) = stretch, other
+    ahead = [] if begin == first else [(first, begin - 1)]
+    behind = [] if end == last else [(end + 1, last)]
+    return ahead + behind
+
+
 def stretches_at(turns):
     """The stretches that begin on the days of turns, and one ahead of them; together they have all days."""
     days = sorted(set(turns))

@@ -8,7 +8,7 @@ from cornerplans.cells import last_first_day, latest_in_box, plan_far
 from cornerplans.corners import undercut
 from cornerplans.days import common_days, is_stretch
 from cornerplans.fares import total_of
-from cornerplans.moments import first_end
+from cornerplans.moments import common_limit
 from cornerplans.plans import makers_keeping, makers_of
 
 LETTERS = "abcdef"
@@ -177,6 +177,4 @@ def _side_by_side(one, other):
     """What is told of joint plans for some offers and for others, put together."""
     prices, limit, sources = one
     more, end, further = other
-    ends = dict(end)
-    both = [(name, first_end(last, ends[name])) for name, last in limit if name in ends]
-    return (_sums(prices, more), tuple(both), (*sources, *further))
+    return (_sums(prices, more), common_limit(limit, end), (*sources, *further))

@@ -16,13 +16,13 @@ MOST_STRETCHES = 4
 
 def plans_alike(one, other):
     """Whether two Plans have the same prices above for all offers and floors."""
-    _check_two_plans(one, other)
+    check_two_plans(one, other)
     return one == other
 
 
 def parting_offer(one, other):
     """An offer and floors with unlike prices above by two Plans, None if there are none."""
-    _check_two_plans(one, other)
+    check_two_plans(one, other)
     parting = [maker for maker in one if maker not in other] + [maker for maker in other if maker not in one]
     if not parting:
         return None
@@ -36,7 +36,7 @@ def parting_offer(one, other):
 
 def is_parting_offer(one, other, thing):
     """Whether any value is an offer and floors with unlike prices above by two Plans."""
-    _check_two_plans(one, other)
+    check_two_plans(one, other)
     if not is_pair(thing):
         return False
     offer, floors = thing
@@ -88,7 +88,8 @@ def check_stretches(offers):
         raise TooMany(MOST_STRETCHES)
 
 
-def _check_two_plans(one, other):
+def check_two_plans(one, other):
+    """The errors of two Plans that must be of the same things."""
     if not isinstance(one, Plans) or not isinstance(other, Plans):
         raise NoPlans("these are no plans")
     if one.things != other.things:

@@ -81,6 +81,12 @@ def last_end(one, other):
     return None if one is None or other is None else max(one, other)
 
 
+def common_limit(one, other):
+    """The limit within which just those plans are that are within both of two limits."""
+    ends = dict(other)
+    return tuple([(name, first_end(end, ends[name])) for name, end in one if name in ends])
+
+
 def limit_key(limit):
     """What limits are sorted by: None, no end, stands behind all numbers."""
     return [(name, end_key(end)) for name, end in limit]

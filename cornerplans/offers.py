@@ -15,12 +15,12 @@ class Offer:
             raise BadBook("things")
         if not _has_just(fares, things) or not all([is_fare(fares[name]) for name in things]):
             raise BadOffer("fares")
-        worths = {name: 0 for name in things} if outs is None else outs
-        if not _has_just(worths, things) or not all([is_worth(worths[name]) for name in things]):
+        worths = outs_of(things, outs)
+        if worths is None:
             raise BadOffer("outs")
         self._things = tuple(sorted(things))
         self._fares = {name: tuple(fares[name]) for name in self._things}
-        self._outs = {name: worths[name] for name in self._things}
+        self._outs = worths
 
     @property
     def things(self):
@@ -75,6 +75,14 @@ def offer_of(words, prices, things, outs=None):
     if not are_things(things):
         raise BadBook("things")
     return Offer(things, {name: least_fare(words, prices, name) for name in things}, outs)
+
+
+def outs_of(things, outs):
+    """What it costs to leave each thing out, 0 if outs are None; None if any value as outs does not tell this."""
+    worths = {name: 0 for name in things} if outs is None else outs
+    if not _has_just(worths, things) or not all([is_worth(worths[name]) for name in things]):
+        return None
+    return {name: worths[name] for name in sorted(things)}
 
 
 def _has_just(thing, things):

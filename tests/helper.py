@@ -196,7 +196,8 @@ class Case(unittest.TestCase):
     """A test case that looks at errors, and at values strictly."""
 
     def same(self, one, other):
-        """Equal, and of one kind at every depth."""
+        """Equal, and of one kind at every depth. Sets are not compared so: their texts have no order."""
+        self.assertNotIsInstance(one, set)
         self.assertEqual(one, other)
         self.assertEqual(strictly(one), strictly(other))
 

@@ -7,10 +7,11 @@ import pathlib
 import unittest
 
 FOLDER = pathlib.Path(__file__).resolve().parent.parent / "cornerplans"
-# The modules in the order of the document; forms, covers, regions and joint are no part of the interface.
+# The modules in the order of the document; some that are no part of the interface stand among them.
 ORDER = [
     "forms", "errors", "moments", "rules", "plans", "strict", "days", "prices", "words", "asking", "fares", "offers",
-    "cells", "covers", "corners", "lasts", "regions", "likeness", "joint", "late",
+    "cells", "covers", "corners", "lasts", "regions", "likeness", "joint", "late", "charts", "worth", "back", "rounds",
+    "paces", "spots", "turns", "house", "journals", "figures", "texts", "desk",
 ]
 FUNCTIONS = {
     "moments": [
@@ -57,6 +58,32 @@ FUNCTIONS = {
         "weighed(plans, forecast, floors, weights)", "regret(plans, forecast, floors)",
         "worth_of_news(plans, forecast, news, floors)",
     ],
+    "worth": [
+        "raised(offer, marks, number)", "corner_lines(plans, offer, marks)", "price_lines(plans, offer, marks, floors)",
+        "least_rules(book, offer)", "least_rows(plans, words, prices, outs=None)", "differences(one, other, offer)",
+        "parting_floors(one, other, offer)", "steady(plans, offer, floors, plan)",
+        "unsteady(plans, offer, floors, plan)", "is_unsteady(plans, offer, floors, plan, number, thing)",
+    ],
+    "back": [
+        "words_that_fit(prices, receipts)", "apart(prices, receipts)", "could_tell(prices, receipts, work, day)",
+        "next_day(prices, receipts)", "is_next_day(prices, receipts, thing)",
+        "offers_that_fit(prices, receipts, things, outs=None)", "sure_prices(plans, prices, receipts, floors)",
+    ],
+    "rounds": ["at_pace(rounds, pace)", "keeps_rounds(rounds, pace, plan)"],
+    "paces": ["is_barring(rounds, pace, name, thing)", "barring(rounds, pace, name)", "paces(rounds, lot)"],
+    "turns": [
+        "unrolled(turns, first, last)", "common(turns, pace)", "turn_price(turns, plan, pace)",
+        "spot_cells(turns, number)", "spot_price(turns, number, cell)", "spot_book(rounds, number, cell)",
+        "least_turn(rounds, turns, pace)", "plan_for(rounds, turns, pace)", "all_paces(rounds, turns)",
+        "least_round(rounds, turns)", "pace_for(rounds, turns)", "is_round_paper(rounds, turns, pace, thing)",
+        "round_paper(rounds, turns, pace)",
+    ],
+    "journals": ["journal_of(house)", "first_wrong(house, journal)", "replayed(house, journal)"],
+    "texts": [
+        "plan_text(plan)", "limit_text(limit)", "rule_text(rule)", "row_text(row)", "words_text(words)",
+        "prices_text(prices)", "start_text(house)", "read_plan(text)", "read_limit(text)", "read_rule(text)",
+        "read_row(text)", "read_words(text)", "read_prices(text)", "read_start(text)",
+    ],
 }
 CLASSES = {
     "rules": {
@@ -87,6 +114,16 @@ CLASSES = {
         "Offer(things, fares, outs=None)": ["with_fare(name, fare)", "with_out(name, out)", "__eq__(other)"],
     },
     "late": {"Forecast(offers, news=())": ["__eq__(other)"]},
+    "rounds": {"RoundBook(things, rules=())": ["__len__()", "__getitem__(at)", "__eq__(other)"]},
+    "turns": {"Turns(period, fares, outs=None)": ["__eq__(other)"]},
+    "house": {
+        "House(book, words, outs=None, day=0)": [
+            "add(rule)", "strike(at)", "put(row)", "end(at, day)", "take(at)", "pass_to(day)", "do(name)", "undo()",
+            "rest()", "least()", "best()", "corners()", "now()", "moved()", "tried(work)", "copy()",
+            "__iadd__(other)", "__enter__()", "__exit__(kind, value, trace)", "__eq__(other)",
+        ],
+    },
+    "desk": {"Desk(text)": ["say(line)"]},
 }
 PROPERTIES = {
     ("rules", "Book"): ["things", "rules"],
@@ -97,6 +134,9 @@ PROPERTIES = {
     ("words", "Words"): ["words", "live"],
     ("offers", "Offer"): ["things", "fares", "outs"],
     ("late", "Forecast"): ["offers", "news"],
+    ("rounds", "RoundBook"): ["things", "rules"],
+    ("turns", "Turns"): ["period", "things", "fares", "outs"],
+    ("house", "House"): ["book", "words", "outs", "prices", "today", "done", "paid", "plans", "log"],
 }
 
 

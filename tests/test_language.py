@@ -99,7 +99,9 @@ class Names(unittest.TestCase):
         for node, place in nodes((ast.FunctionDef, ast.ClassDef, ast.arg, ast.Name, ast.Attribute)):
             name = {ast.arg: "arg", ast.Name: "id", ast.Attribute: "attr"}.get(type(node), "name")
             word = getattr(node, name)
-            if word not in DOUBLE:
+            if word in ("__class__", "__name__"):
+                self.assertRegex(ast.unparse(node), r"\A[a-z]+\.__class__(\.__name__)?\Z", place)
+            elif word not in DOUBLE:
                 self.assertRegex(word, r"\A(_|_?[A-Za-z][A-Za-z0-9_]*)\Z", place)
                 self.assertNotIn(word, BARRED_NAMES, place)
             if isinstance(node, ast.Name) and isinstance(node.ctx, ast.Load):
