@@ -1,5 +1,6 @@
 """Told back: what receipts tell of the order of words."""
 
+import collections
 import itertools
 import random
 import unittest
@@ -44,7 +45,8 @@ def no_receipts():
     ]:
         wrong += [([item], BadReceipts(0)), ([RECEIPT, item], BadReceipts(1)), ((item, RECEIPT), BadReceipts(0))]
         wrong += [([RECEIPT] * 20 + [item], BadReceipts(20)), ([RECEIPT] * 3 + [item] * 20, BadReceipts(3))]
-    wrong += [([RECEIPT] * 21, TooMany(20)), (tuple([RECEIPT] * 40), TooMany(20)), ([item] + [RECEIPT] * 20, BadReceipts(0))]
+    wrong += [([RECEIPT] * 21, TooMany(20)), (tuple([RECEIPT] * 40), TooMany(20))]
+    wrong += [([item] + [RECEIPT] * 20, BadReceipts(0))]
     return wrong + [(value, BadReceipts(None)) for value in ({}, {RECEIPT: 1}, "receipts", None, 0, True)]
 
 
@@ -201,7 +203,7 @@ class NextDay(Case):
             found = [table(words, rows) for words in fitting(rows, receipts)]
             pairs = list(itertools.product(WORKS, DAYS))
             most = {
-                pair: max([[row[at] for row in found].count(answer) for answer in {row[at] for row in found}], default=0)
+                pair: max(collections.Counter(row[at] for row in found).values(), default=0)
                 for at, pair in enumerate(pairs)
             }
             alike = all(row == found[0] for row in found)

@@ -38,7 +38,8 @@ class Fewest(Case):
         chance = random.Random(1)
         for _ in range(400):
             many = chance.randint(1, 9)
-            lots = [tuple(chance.sample(range(many), chance.randint(1, min(4, many)))) for _ in range(chance.randint(0, 14))]
+            sizes = [chance.randint(1, min(4, many)) for _ in range(chance.randint(0, 14))]
+            lots = [tuple(chance.sample(range(many), size)) for size in sizes]
             self.same(fewest_for(lots), fewest_by_hand(lots))
 
     def test_large_ones(self):

@@ -126,7 +126,8 @@ class Choices(Case):
 
     def test_sums_of_0_and_below(self):
         for wait, answer in [(0, False), (-1, True), (1, False)]:
-            ring = [((("a", 0, 0),), (("b", wait, 0),)), ((("b", 0, 0),), (("c", 0, 0),)), ((("c", 0, 0),), (("a", 0, 0),))]
+            ring = [((("a", 0, 0),), (("b", wait, 0),)), ((("b", 0, 0),), (("c", 0, 0),))]
+            ring += [((("c", 0, 0),), (("a", 0, 0),))]
             rounds = RoundBook(["a", "b", "c"], ring)
             for pace in (-5, 0, 5):
                 self.judge(rounds, pace, "b", {"a": 0, "b": 1, "c": 2}, answer)
@@ -175,8 +176,9 @@ class Choices(Case):
         rounds = RoundBook(["a", "b"], rules + [((("b", 0, 0),), (("a", -2, 0),))])
         last = max(range(23), key=lambda at: rules[at][0][0][1])
         self.same(barring(rounds, 0, "a"), None if rules[last][0][0][1] < 9 else barring(rounds, 0, "a"))
-        self.judge(RoundBook(["a"], [((("a", 0, 0),), (("a", 0, 0),))] * 23 + [RULES["alone"]]), 0, "a", {"a": 23}, True)
-        self.same(barring(RoundBook(["a"], [((("a", 0, 0),), (("a", 0, 0),))] * 23 + [RULES["alone"]]), 0, "a"), {"a": 23})
+        many = RoundBook(["a"], [((("a", 0, 0),), (("a", 0, 0),))] * 23 + [RULES["alone"]])
+        self.judge(many, 0, "a", {"a": 23}, True)
+        self.same(barring(many, 0, "a"), {"a": 23})
 
     def test_new_dicts(self):
         barring(ROUNDS, -8, "a").clear()

@@ -119,8 +119,8 @@ class RoundBooks(Case):
         self.assertTrue(rounds == RoundBook(("b", "a"), (NEXT, BACK)))
         self.assertFalse(rounds != RoundBook(("b", "a"), (NEXT, BACK)))
         for other in (
-            RoundBook(["a", "b"], [BACK, NEXT]), RoundBook(["a", "b"], [NEXT]), RoundBook(["a", "b", "c"], [NEXT, BACK]),
-            Book(["a", "b"]),
+            RoundBook(["a", "b"], [BACK, NEXT]), RoundBook(["a", "b"], [NEXT]),
+            RoundBook(["a", "b", "c"], [NEXT, BACK]), Book(["a", "b"]),
         ):
             self.assertTrue(rounds != other)
             self.assertFalse(rounds == other)

@@ -74,7 +74,9 @@ def by_spots(turns, number, cell):
 
 def all_spot_cells(things, number):
     return sorted(
-        tuple(zip(lot, spots)) for lot in all_lots(things) for spots in itertools.product(range(number), repeat=len(lot))
+        tuple(zip(lot, spots))
+        for lot in all_lots(things)
+        for spots in itertools.product(range(number), repeat=len(lot))
     )
 
 
@@ -118,9 +120,11 @@ class Parts(Case):
             (), [], [1, 2, 3], (1, 2), (1, 2, 3, 4), (1, 2, -1), (1, 2, True), (False, 2, 3), (1, 2, "3"), (1, 2, (3,)),
             {0: 1, 1: 2, 2: 3}, "123", None, 3, (1, 2, [3]),
         ]
-        wrong = [{"a": row} for row in rows if row != (1, 2, 3)] + [{"a": good, "b": row} for row in rows if row != (1, 2, 3)]
+        rows = [row for row in rows if row != (1, 2, 3)]
+        wrong = [{"a": row} for row in rows] + [{"a": good, "b": row} for row in rows]
         wrong += [{}, (), [], None, "a", ["a"], (("a", good),), [("a", good)], {"A": good}, {"": good}, {None: good}]
-        wrong += [{"a": good, 1: good}, {"abcdefg": good}, {("a",): good}, {name: good for name in "abcde"}, {True: good}]
+        wrong += [{"a": good, 1: good}, {"abcdefg": good}, {("a",): good}, {True: good}]
+        wrong += [{name: good for name in "abcde"}]
         for fares in wrong + [value for value in any_values() if value != {"a": good}]:
             self.fails(BadTurns("fares"), Turns, 3, fares)
             self.fails(BadTurns("fares"), Turns, 3, fares, 7)
@@ -166,7 +170,8 @@ class Unrolled(Case):
         self.assertEqual(unrolled(turns=EVEN, first=-1, last=2), offer)
         flat = Turns(3, {"a": (4, 4, None)})
         self.same(unrolled(flat, 0, 7).fares["a"], [
-            ((None, -1), None), ((0, 1), 4), ((2, 2), None), ((3, 4), 4), ((5, 5), None), ((6, 7), 4), ((8, None), None),
+            ((None, -1), None), ((0, 1), 4), ((2, 2), None), ((3, 4), 4), ((5, 5), None), ((6, 7), 4),
+            ((8, None), None),
         ])
         self.same(unrolled(flat, 2, 2).fares["a"], [((None, None), None)])
         self.same(unrolled(flat, FAR, FAR).fares["a"][0], ((None, FAR - 1), None))
@@ -196,8 +201,10 @@ class Unrolled(Case):
 
 class TurnPrice(Case):
     def test_common(self):
-        for pace, number in [(0, 6), (6, 6), (-6, 6), (3, 3), (-3, 3), (9, 3), (4, 2), (-4, 2), (1, 1), (-1, 1), (5, 1), (
-                FAR, 2), (-12, 6)]:
+        for pace, number in [
+            (0, 6), (6, 6), (-6, 6), (-12, 6), (3, 3), (-3, 3), (9, 3), (4, 2), (-4, 2), (FAR, 2), (1, 1), (-1, 1),
+            (5, 1),
+        ]:
             self.same(common(WEEK, pace), number)
             self.same(common(turns=WEEK, pace=pace), number)
         self.judged(common, [WEEK, 3], [NO_TURNS, NO_PACES])
@@ -255,8 +262,9 @@ class SpotCells(Case):
         self.same(spot_cells(Turns(1, {"a": (None,)}), 1), [()])
         self.same(spot_cells(Turns(1, {"a": (None,)}, {"a": None}), 1), [])
         for number, cell, price in [
-            (1, (("a", 0),), 51), (2, (("a", 0),), 24), (2, (("a", 1), ("b", 0)), 16), (2, (("b", 0),), None), (2, (), None),
-            (2, (("a", 0), ("b", 1)), None), (3, (("a", 0), ("b", 2)), 6), (6, (("a", 0), ("b", 5)), 2), (6, (("a", 5),), 11),
+            (1, (("a", 0),), 51), (2, (("a", 0),), 24), (2, (("a", 1), ("b", 0)), 16), (2, (("b", 0),), None),
+            (2, (), None), (2, (("a", 0), ("b", 1)), None), (3, (("a", 0), ("b", 2)), 6),
+            (6, (("a", 0), ("b", 5)), 2), (6, (("a", 5),), 11),
         ]:
             self.same(spot_price(WEEK, number, cell), price)
             self.same(spot_price(turns=WEEK, number=number, cell=cell), price)
@@ -392,7 +400,9 @@ class LeastTurns(Case):
         hasty = RoundBook(["a"], [((("a", 0, 0),), (("a", 1, 1),)), ((("a", 0, 1),), (("a", 1, 0),)), (
             (("a", 0, 0),), (("a", -1, 1),))])
         self.same(paces(hasty, ("a",)), [(1, 1)])
-        for fare, answer in [((1, 2), (3, 2)), ((1, 2, 3), (2, 1)), ((1, 1, 2, 3), (7, 4)), ((3, 0, 1, 0, 0, 0), (2, 3))]:
+        for fare, answer in [
+            ((1, 2), (3, 2)), ((1, 2, 3), (2, 1)), ((1, 1, 2, 3), (7, 4)), ((3, 0, 1, 0, 0, 0), (2, 3)),
+        ]:
             turns = Turns(len(fare), {"a": fare}, {"a": None})
             self.same(least_round(hasty, turns), answer)
             self.same(pace_for(hasty, turns), 1)
@@ -564,8 +574,8 @@ class Papers(Case):
         ]:
             self.judge((odd, {(("a", 0), ("b", 1)): choice}), False)
         for cell in [
-            (("a", 0), ("b", True)), (("a", False), ("b", 1)), (("b", 1), ("a", 0)), (("a", 1), ("b", 0)), (("a", 0),), (),
-            None, "a", 0, (("a", 0), ("b", 3)), (("a", 2), ("b", 1)),
+            (("a", 0), ("b", True)), (("a", False), ("b", 1)), (("b", 1), ("a", 0)), (("a", 1), ("b", 0)), (("a", 0),),
+            (), None, "a", 0, (("a", 0), ("b", 3)), (("a", 2), ("b", 1)),
         ]:
             self.judge((odd, {cell: bar}), False)
             if cell not in self.BARS:

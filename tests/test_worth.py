@@ -41,8 +41,8 @@ NO_COUNTS = no_numbers(BadNumber(".")) + [(value, BadNumber(".")) for value in (
 def no_marks(name, stretch, bare):
     """Lists that are no marks: of a fare that has a stretch, and a bare one without a price."""
     mark = (name, stretch)
-    wrong = [(value, BadMarks(0 if isinstance(value, (list, tuple)) else None)) for value in any_values() if value not in (
-        [], ())]
+    others = [value for value in any_values() if value not in ([], ())]
+    wrong = [(value, BadMarks(0 if isinstance(value, (list, tuple)) else None)) for value in others]
     first, last = stretch
     for item in [
         None, name, (), (name,), (name, None), [name, stretch], (name, list(stretch)), (name, stretch, 0), (name, bare),
@@ -52,7 +52,7 @@ def no_marks(name, stretch, bare):
     ]:
         wrong += [([item], BadMarks(0)), ([mark, item], BadMarks(1)), ((item, mark), BadMarks(0))]
     wrong += [([mark, mark], BadMarks(1)), ([mark, mark, None], BadMarks(1)), ([None, mark, mark], BadMarks(0))]
-    return wrong + [({}, BadMarks(None)), ({mark: 1}, BadMarks(None)), ("marks", BadMarks(None)), (None, BadMarks(None))]
+    return wrong + [(value, BadMarks(None)) for value in ({}, {mark: 1}, "marks", None)]
 
 
 NO_MARKS = no_marks("a", (4, 9), (3, 3))
@@ -495,7 +495,9 @@ class Steady(Case):
                 plan = chance.choice(best)
                 chosen = cell_of(offer, plan)
                 found = {cell_of(offer, other): worth for other, worth in priced if fits(floors, other)}
-                bounds = [(worth - price) // unlike(offer, chosen, cell) for cell, worth in found.items() if cell != chosen]
+                bounds = [
+                    (worth - price) // unlike(offer, chosen, cell) for cell, worth in found.items() if cell != chosen
+                ]
                 self.same(steady(plans, offer, floors, plan), least_of(bounds))
                 seen.add(least_of(bounds))
                 self.judge_pair(plans, offer, floors, plan)
