@@ -6,12 +6,16 @@ import random
 import unittest
 
 from cornerplans.days import Box
+from cornerplans.desk import Desk
 from cornerplans.errors import BadPlan, BadPlans
+from cornerplans.house import House
 from cornerplans.late import Forecast
 from cornerplans.offers import Offer
 from cornerplans.plans import Plans
 from cornerplans.prices import Prices, Row
+from cornerplans.rounds import RoundBook
 from cornerplans.rules import Book
+from cornerplans.turns import Turns
 from cornerplans.words import Words
 
 
@@ -35,6 +39,10 @@ def objects():
         Words(["newest"]),
         Offer(["a", "b"], {"a": [((None, None), 1)], "b": [((None, 0), None), ((1, None), 2)]}),
         Forecast([Offer(["a"], {"a": [((None, None), 1)]})]),
+        RoundBook(["a", "b"], [((("a", 0, 1),), (("b", 1, 0),))]),
+        Turns(2, {"a": (1, None)}),
+        House(Book(["a", "b"]), Words(["newest"])),
+        Desk("things a\nwords\nouts -\nday 0\n"),
         BadPlan("a message"),
         BadPlans(3),
     ]
