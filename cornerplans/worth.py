@@ -11,7 +11,7 @@ from cornerplans.errors import BadBook, BadMarks, BadNumber, BadOffer, NoPlans, 
 from cornerplans.fares import price_on
 from cornerplans.forms import is_list, is_number, is_pair
 from cornerplans.likeness import check_two_plans
-from cornerplans.moments import common_limit, fits
+from cornerplans.moments import common_limit
 from cornerplans.offers import Offer, offer_of, price_of
 from cornerplans.plans import Plans, plans_of
 from cornerplans.rules import Book

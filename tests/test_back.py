@@ -11,15 +11,13 @@ from cornerplans.back import (
 )
 from cornerplans.corners import price_above
 from cornerplans.days import Box
-from cornerplans.errors import (
-    BadBook, BadNumber, BadOffer, BadPrices, BadReceipts, BadThing, NoPlans, TooMany,
-)
+from cornerplans.errors import BadBook, BadOffer, BadReceipts, NoPlans, TooMany
 from cornerplans.offers import Offer, offer_of
 from cornerplans.plans import Plans, plans_of
 from cornerplans.prices import Prices, Row
 from cornerplans.words import Words, all_words
 from tests.helper import Case, any_values, grid
-from tests.test_asking import NO_DAYS, NO_PRICES, NO_WORKS, STRETCHES, plain_told, some_rows
+from tests.test_asking import NO_DAYS, NO_PRICES, NO_WORKS, plain_told, some_rows
 from tests.test_cells import NO_PLANS
 from tests.test_corners import AB, FAR, NO_FLOORS
 from tests.test_offers import NO_OUTS, NO_THINGS

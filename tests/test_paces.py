@@ -159,7 +159,6 @@ class Choices(Case):
         self.assertTrue({None, 1, 2, 3} <= seen)
 
     def test_four_things_and_24_rules(self):
-        chance = random.Random(2)
         for rounds in some_rounds(3, 6, "abcd", range(-9, 10), 12) + some_rounds(4, 2, "abcd", range(-9, 10), 24):
             for pace in (-7, 0, 3):
                 makers = [((name, 0),) for name in "abcd"]
@@ -172,10 +171,12 @@ class Choices(Case):
                     self.same(found is None, name in coming)
                     if found is not None:
                         self.assertTrue(is_barring(rounds, pace, name, found) and bars(rounds, pace, name, found))
-        rules = [((("a", chance.randint(0, 9), 0),), (("b", 10, 0),)) for _ in range(23)]
-        rounds = RoundBook(["a", "b"], rules + [((("b", 0, 0),), (("a", -2, 0),))])
-        last = max(range(23), key=lambda at: rules[at][0][0][1])
-        self.same(barring(rounds, 0, "a"), None if rules[last][0][0][1] < 9 else barring(rounds, 0, "a"))
+        # Of 23 rules for a one alone bars it, as its ring counts 10 - 9 - 2.
+        rules = [((("a", at % 9, 0),), (("b", 10, 0),)) for at in range(23)]
+        back = ((("b", 0, 0),), (("a", -2, 0),))
+        self.same(barring(RoundBook(["a", "b"], [*rules, back]), 0, "a"), None)
+        rules[17] = ((("a", 9, 0),), (("b", 10, 0),))
+        self.same(barring(RoundBook(["a", "b"], [*rules, back]), 0, "a"), {"a": 17, "b": 23})
         many = RoundBook(["a"], [((("a", 0, 0),), (("a", 0, 0),))] * 23 + [RULES["alone"]])
         self.judge(many, 0, "a", {"a": 23}, True)
         self.same(barring(many, 0, "a"), {"a": 23})

@@ -7,9 +7,7 @@ import unittest
 from fractions import Fraction
 
 from cornerplans.corners import price_above
-from cornerplans.errors import (
-    BadCell, BadNumber, BadPlan, BadTurns, NoRounds, NoTurns, OtherThings, TooMany,
-)
+from cornerplans.errors import BadCell, BadNumber, BadTurns, NoRounds, NoTurns, OtherThings, TooMany
 from cornerplans.offers import Offer
 from cornerplans.paces import paces
 from cornerplans.plans import Plans

@@ -9,7 +9,7 @@ from fractions import Fraction
 from cornerplans.corners import corners, price_above
 from cornerplans.days import Box
 from cornerplans.errors import (
-    BadBook, BadMarks, BadNumber, BadOffer, BadPlan, BadPrices, BadWords, NoPlans, NotSo, OtherThings, TooMany,
+    BadBook, BadMarks, BadNumber, BadOffer, BadPlan, NoPlans, NotSo, OtherThings, TooMany,
 )
 from cornerplans.offers import Offer, offer_of, price_of
 from cornerplans.plans import Plans, plans_of
@@ -29,7 +29,7 @@ from tests.test_cells import NO_PLANS
 from tests.test_corners import (
     AB, AB_OFFER, CORNERS, FAR, NO_FLOORS, NO_OFFERS_OF, OFFER, PLANS, above, cell_of, end_key, some_cases,
 )
-from tests.test_fares import EVER, FARE, NEVER
+from tests.test_fares import EVER, NEVER
 from tests.test_offers import NO_OFFERS, NO_OUTS
 from tests.test_plans import BOOK
 
@@ -152,7 +152,7 @@ class CornerLines(Case):
             (1, 1, (("a", 3),)), (4, 1, (("a", 8),)), (5, 0, (("a", None),)),
         ])
         self.same(corner_lines(Plans(["a"], [(("a", 0),)]), offer, [("a", (9, None))]), [
-            (1, 0, (("a", 3),)), (4, 0, (("a", 8),)), (5, 1, (("a", None),)), 
+            (1, 0, (("a", 3),)), (4, 0, (("a", 8),)), (5, 1, (("a", None),)),
         ])
         self.same(corner_lines(Plans(["a"], [(("a", 0),)]), Offer(["a"], {"a": fare}, {"a": 0}), [("a", (4, 8))]), [
             (0, 0, ()), (1, 0, (("a", 3),)), (4, 1, (("a", 8),)), (5, 0, (("a", None),)),
@@ -419,9 +419,8 @@ class Differences(Case):
 
     def test_wrong(self):
         others = [(value, OtherThings(".")) for value in (PLANS, Plans(["a"]), Plans(["a", "b", "c"]))]
-        no_plans = [row for row in NO_PLANS]
         for call in (differences, parting_floors):
-            self.judged(call, [AB, AB, AB_OFFER], [no_plans, no_plans + others, NO_OFFERS_OF])
+            self.judged(call, [AB, AB, AB_OFFER], [NO_PLANS, NO_PLANS + others, NO_OFFERS_OF])
             self.fails(NoPlans("."), call, None, AB, None)
             self.fails(OtherThings("."), call, AB, PLANS, None)
 
