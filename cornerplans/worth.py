@@ -11,7 +11,7 @@ from cornerplans.errors import BadBook, BadMarks, BadNumber, BadOffer, NoPlans, 
 from cornerplans.fares import price_on
 from cornerplans.forms import is_list, is_number, is_pair
 from cornerplans.likeness import check_two_plans
-from cornerplans.moments import common_limit
+from cornerplans.moments import common_limit, fits
 from cornerplans.offers import Offer, offer_of, price_of
 from cornerplans.plans import Plans, plans_of
 from cornerplans.rules import Book
@@ -72,7 +72,8 @@ def least_rules(book, offer):
     if len(book) > MOST_RULES:
         raise TooMany(MOST_RULES)
     wanted = corners(plans_of(book), offer)
-    return _least_lots(len(book), lambda lot: corners(plans_of(book.some(lot)), offer) == wanted)
+    # With fewer rules there are more plans, so that a price above can only be less than it was.
+    return _least_lots(len(book), lambda lot: _is_none_cheaper(plans_of(book.some(lot)), offer, wanted))
 
 
 def least_rows(plans, words, prices, outs=None):
@@ -251,6 +252,26 @@ def _cells_above(plans, offer, floors):
         if limit is not None:
             found.append((price, cell, box, limit))
     return found
+
+
+def _is_none_cheaper(plans, offer, pairs):
+    """Whether the price above no floors is less than corners tell."""
+    makers = plans.makers
+    for price, cell in priced_cells(offer):
+        limit = latest_in_box(makers, cell)
+        if limit is not None and not _is_told(price, limit, pairs):
+            return False
+    return True
+
+
+def _is_told(price, limit, pairs):
+    """Whether a limit is within that of some corner with at most this price; corners ascend."""
+    for worth, end in pairs:
+        if worth > price:
+            return False
+        if fits(limit, end):
+            return True
+    return False
 
 
 def _least_lots(many, is_enough):
